@@ -1,0 +1,1 @@
+"""Stillflow: flows that no pair would leave."""

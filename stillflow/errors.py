@@ -1,0 +1,29 @@
+"""All refusals: one class for each, all of them under FlowError."""
+
+
+class FlowError(ValueError):
+    """Any refusal."""
+
+
+class NoWorld(FlowError):
+    """What was handed in as a world is none."""
+
+
+class NoPlan(FlowError):
+    """What was handed in as a plan is none of this world."""
+
+
+class NoPlace(FlowError):
+    """There is no giver, taker, side or way of this number."""
+
+
+class TooMany(FlowError):
+    """There are too many plans to list them."""
+
+
+class Nothing(FlowError):
+    """There is nothing to take back, or to do again."""
+
+
+class NoText(FlowError):
+    """The text is not the writing of anything."""

@@ -1,0 +1,177 @@
+"""The package's own files keep to the small part of Python that LANGUAGE.md tells.
+
+Only what can be read off the files step by step is looked at here; the rules
+that speak of meaning (say L11 or L15's copies) are left to the reader.
+"""
+
+import ast
+import builtins
+import re
+import unittest
+from pathlib import Path
+
+PACKAGE = Path(__file__).resolve().parent.parent / "stillflow"
+FILES = sorted(PACKAGE.rglob("*.py"))
+
+STATEMENTS = (
+    ast.FunctionDef, ast.ClassDef, ast.ImportFrom, ast.Assign, ast.AugAssign, ast.If, ast.While, ast.For,
+    ast.Return, ast.Break, ast.Continue, ast.Pass, ast.Raise, ast.Try, ast.Expr,
+)
+EXPRESSIONS = (
+    ast.Constant, ast.List, ast.Tuple, ast.Dict, ast.Set, ast.BinOp, ast.UnaryOp, ast.BoolOp, ast.Compare, ast.IfExp,
+    ast.Call, ast.Attribute, ast.Subscript, ast.Slice, ast.ListComp, ast.JoinedStr, ast.FormattedValue, ast.Name,
+    ast.Lambda,
+)
+ERROR_NAMES = (
+    "Exception ValueError TypeError KeyError IndexError LookupError ZeroDivisionError ArithmeticError OverflowError "
+    "RuntimeError NotImplementedError AttributeError StopIteration"
+).split()
+PYTHON_NAMES = (
+    "len range enumerate zip min max sum abs sorted reversed int str bool list tuple dict set frozenset isinstance "
+    "ord repr any all divmod"
+).split() + ERROR_NAMES
+METHODS = (
+    "append clear copy count endswith extend find get index insert isalnum isalpha isdigit islower isspace isupper "
+    "items join keys ljust lower lstrip partition pop remove replace reverse rfind rjust rpartition rsplit rstrip "
+    "setdefault split splitlines startswith strip update upper values zfill bit_length"
+).split()
+UNDERSCORED = ("__init__", "__eq__", "__repr__", "__str__", "__len__", "__all__", "__version__")
+UNUSED = (
+    "register mro elements open input version_info with_traceback add_note attrgetter breakpoint builtins compile "
+    "copyright credits delattr dir eval exec exit gc getattr globals hasattr help id importlib license locals "
+    "methodcaller os quit setattr super type vars sys format format_map"
+).split()
+UNWRITTEN = (
+    "type typing typing_extensions enum Enum IntEnum StrEnum Flag IntFlag Generic Protocol ABC ABCMeta namedtuple "
+    "NamedTuple TypedDict TYPE_CHECKING abstractmethod"
+).split()
+
+
+def bound_names(tree):
+    """All names that a file gives a meaning to."""
+    names = []
+    for node in ast.walk(tree):
+        if isinstance(node, (ast.FunctionDef, ast.ClassDef)):
+            names.append(node.name)
+        elif isinstance(node, ast.arg):
+            names.append(node.arg)
+        elif isinstance(node, ast.alias):
+            names.append(node.asname or node.name)
+        elif isinstance(node, ast.ExceptHandler) and node.name:
+            names.append(node.name)
+        elif isinstance(node, ast.Name) and isinstance(node.ctx, ast.Store):
+            names.append(node.id)
+    return names
+
+
+class Language(unittest.TestCase):
+    def each_node(self, *kinds):
+        for path in FILES:
+            for node in ast.walk(ast.parse(path.read_text("utf-8"))):
+                if isinstance(node, kinds):
+                    yield f"{path.name}:{getattr(node, 'lineno', 0)}", node
+
+    def test_files(self):
+        self.assertTrue(FILES)
+        for path in PACKAGE.rglob("*"):
+            if path.is_file() and "__pycache__" not in path.parts:
+                self.assertRegex(path.name, r"\A[a-z0-9_]+\.py\Z")
+
+    def test_signs_words_and_sizes(self):
+        for path in FILES:
+            text = path.read_text("utf-8")
+            self.assertRegex(text, r"\A[ -~\n]*\Z", path.name)
+            self.assertLessEqual(len(text.split("\n")), 400, path.name)
+            for line in text.split("\n"):
+                self.assertLessEqual(len(line), 120, path.name)
+            self.assertEqual([word for word in re.findall(r"\w+", text) if word in UNWRITTEN], [], path.name)
+            self.assertNotRegex(text, "dataclass|overload|contextmanager")
+
+    def test_statements_and_expressions(self):
+        for place, node in self.each_node(ast.stmt):
+            self.assertIsInstance(node, STATEMENTS, place)
+        for place, node in self.each_node(ast.expr):
+            self.assertIsInstance(node, EXPRESSIONS, place)
+        for place, node in self.each_node(ast.Expr):
+            self.assertIsInstance(node.value, (ast.Call, ast.Constant), place)
+        for place, node in self.each_node(ast.Assign):
+            self.assertEqual(len(node.targets), 1, place)
+        for place, node in self.each_node(ast.For, ast.While):
+            self.assertEqual(node.orelse, [], place)
+        for place, node in self.each_node(ast.Try):
+            self.assertEqual(node.finalbody, [], place)
+        for place, node in self.each_node(ast.Div, ast.MatMult):
+            self.fail(place)
+
+    def test_values(self):
+        for place, node in self.each_node(ast.Constant):
+            self.assertIsInstance(node.value, (int, str, bool, type(None)), place)
+        for place, node in self.each_node(ast.ListComp):
+            self.assertEqual(len(node.generators), 1, place)
+            self.assertLessEqual(len(node.generators[0].ifs), 1, place)
+
+    def test_is_stands_beside_none_true_and_false(self):
+        for place, node in self.each_node(ast.Compare):
+            for sign, right in zip(node.ops, node.comparators):
+                if isinstance(sign, (ast.Is, ast.IsNot)):
+                    self.assertIn(ast.dump(right), [ast.dump(ast.Constant(value)) for value in (None, True, False)])
+
+    def test_functions(self):
+        for place, node in self.each_node(ast.FunctionDef):
+            self.assertLessEqual(node.end_lineno - node.lineno + 1, 40, place)
+            self.assertEqual(node.decorator_list, [], place)
+            self.assertIs(node.returns, None, place)
+        for place, node in self.each_node(ast.arguments):
+            self.assertEqual((node.vararg, node.kwarg, node.kwonlyargs, node.posonlyargs), (None, None, [], []), place)
+        for place, node in self.each_node(ast.arg):
+            self.assertIs(node.annotation, None, place)
+
+    def test_classes(self):
+        for place, node in self.each_node(ast.ClassDef):
+            self.assertLessEqual(len(node.bases), 1, place)
+            self.assertEqual((node.decorator_list, node.keywords), ([], []), place)
+            for part in node.body:
+                words = isinstance(part, ast.Expr) and isinstance(part.value, ast.Constant)
+                self.assertTrue(words or isinstance(part, (ast.FunctionDef, ast.Pass)), place)
+
+    def test_imports(self):
+        modules = {f"stillflow.{path.stem}" for path in FILES}
+        for place, node in self.each_node(ast.ImportFrom):
+            self.assertEqual(node.level, 0, place)
+            self.assertIn(node.module, modules, place)
+            defined = ast.parse((PACKAGE / f"{node.module.split('.')[1]}.py").read_text("utf-8")).body
+            tops = [part.name for part in defined if isinstance(part, (ast.FunctionDef, ast.ClassDef))]
+            tops += [part.targets[0].id for part in defined if isinstance(part, ast.Assign)]
+            for alias in node.names:
+                self.assertIn(alias.name, tops, place)
+
+    def test_names(self):
+        for path in FILES:
+            tree = ast.parse(path.read_text("utf-8"))
+            bound = bound_names(tree)
+            for name in bound:
+                self.assertRegex(name, r"\A[A-Za-z][A-Za-z0-9_]*\Z" if name not in UNDERSCORED else ".", path.name)
+                self.assertNotIn(name, PYTHON_NAMES + UNUSED, path.name)
+                self.assertFalse(hasattr(builtins, name), f"{path.name}: {name}")
+            read = [node.id for node in ast.walk(tree) if isinstance(node, ast.Name)]
+            self.assertEqual([name for name in read if name not in bound + PYTHON_NAMES], [], path.name)
+
+    def test_names_of_the_top_are_not_bound_again_within(self):
+        for path in FILES:
+            tree = ast.parse(path.read_text("utf-8"))
+            tops = [part.name for part in tree.body if isinstance(part, ast.ClassDef)]
+            for part in tree.body:
+                if isinstance(part, ast.ImportFrom):
+                    tops += [alias.name for alias in part.names]
+            bound = bound_names(tree)
+            self.assertEqual([name for name in tops if bound.count(name) > 1], [], path.name)
+
+    def test_methods(self):
+        own = [part.name for _, node in self.each_node(ast.ClassDef) for part in node.body if hasattr(part, "name")]
+        for place, node in self.each_node(ast.Call):
+            if isinstance(node.func, ast.Attribute):
+                self.assertIn(node.func.attr, METHODS + own, place)
+
+
+if __name__ == "__main__":
+    unittest.main()
