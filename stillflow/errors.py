@@ -14,7 +14,7 @@ class NoPlan(FlowError):
 
 
 class NoPlace(FlowError):
-    """There is no giver, taker, side or way of this number."""
+    """No giver, taker, side or way has this number, or it can be no amount, no limit, no place in likes."""
 
 
 class TooMany(FlowError):

@@ -1,6 +1,6 @@
 """What goes in a plan, what a place would choose, and which plans are at rest."""
 
-from stillflow.worlds import check_number, check_plan, check_world, through
+from stillflow.worlds import check_number, check_place, check_plan, check_world, through
 
 
 def sent(world, plan, giver):
@@ -25,18 +25,21 @@ def ways_of(world, side, place):
     return sorted(own, key=lambda number: likes.index(ways[number][1 - side]))
 
 
-def choice(world, side, place, offers):
-    """What a place of a side chooses of what is offered on each way."""
-    check_world(world)
-    # What is no side has no places, so this too is NoPlace.
-    check_number(side, 2)
-    check_number(place, len(world[side]))
+def chosen_by(world, side, place, offers):
+    """What a place of a side, known to be one, chooses of what is offered on each way."""
     chosen = [0 for way in world[2]]
     left = world[side][place][0]
     for number in ways_of(world, side, place):
         chosen[number] = min(offers[number], world[2][number][2], left)
         left = left - chosen[number]
     return tuple(chosen)
+
+
+def choice(world, side, place, offers):
+    """What a place of a side chooses of what is offered on each way."""
+    check_world(world)
+    check_place(world, side, place)
+    return chosen_by(world, side, place, offers)
 
 
 def wants_more(world, plan, side, way):
@@ -60,6 +63,14 @@ def why_kept(world, plan, way):
     return None
 
 
+def is_still(world, plan):
+    """Whether no pair would leave a plan that is known to be one."""
+    for way in range(len(plan)):
+        if why_kept(world, plan, way) is None:
+            return False
+    return True
+
+
 def leaving(world, plan):
     """A rising list of all ways that both ends would have more go on."""
     check_plan(world, plan)
@@ -68,7 +79,8 @@ def leaving(world, plan):
 
 def rests(world, plan):
     """Whether no pair would leave the plan."""
-    return leaving(world, plan) == []
+    check_plan(world, plan)
+    return is_still(world, plan)
 
 
 def reason(world, plan, way):

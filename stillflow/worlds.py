@@ -113,10 +113,32 @@ def check_plan(world, plan):
         raise NoPlan("this is no plan of the world")
 
 
+def check_whole(thing, least, most):
+    """NoPlace of any thing that is no whole number from least to most."""
+    if not is_whole(thing, least, most):
+        raise NoPlace("there is none of this number")
+
+
 def check_number(thing, many):
     """NoPlace of any thing that is not the number of one of so many."""
-    if not is_number(thing, many):
-        raise NoPlace("there is none of this number")
+    check_whole(thing, 0, many - 1)
+
+
+def check_side(thing):
+    """NoPlace of any thing that is no side."""
+    # What is no side has no places, so that none of them has any number.
+    check_number(thing, 2)
+
+
+def check_place(world, side, place):
+    """NoPlace of any two things that are not a side and the number of one of its places."""
+    check_side(side)
+    check_number(place, len(world[side]))
+
+
+def replaced(parts, number, part):
+    """The tuple with another part in the place of the one of this number."""
+    return parts[:number] + (part,) + parts[number + 1:]
 
 
 def turned_order(world):

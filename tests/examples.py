@@ -46,7 +46,42 @@ TALL = (
     ((0, 0, 9), (1, 0, 1), (3, 0, 4)),
 )
 
-WORLDS = (ONE, BARE, CROSSED, UNEVEN, FULL, TALL)
+# Three by three, one each; three plans at rest, of which one has only ways that are in neither of the best ones.
+ROUND = (
+    tuple((1, likes) for likes in ((0, 1, 2), (1, 2, 0), (2, 0, 1))),
+    tuple((1, likes) for likes in ((1, 2, 0), (2, 0, 1), (0, 1, 2))),
+    tuple((giver, taker, 1) for giver in range(3) for taker in range(3)),
+)
+
+# Three by two; what giver 0 offers is refused twice: first for want of room, then for a giver refused elsewhere.
+TWICE = (
+    ((3, (0,)), (2, (1, 0)), (2, (1,))),
+    ((2, (1, 0)), (2, (2, 1))),
+    ((0, 0, 3), (1, 0, 2), (1, 1, 2), (2, 1, 2)),
+)
+
+# A crossed world, and beside it a giver and a taker of whom the taker has room left in all plans at rest.
+LEFT = (
+    CROSSED[0] + ((3, (2,)),),
+    CROSSED[1] + ((4, (2,)),),
+    CROSSED[2] + ((2, 2, 3),),
+)
+
+# Two crossed worlds side by side, the other one with ones for twos: some of its plans at rest no side likes more.
+BLOCKS = (
+    ((2, (0, 1)), (2, (1, 0)), (1, (2, 3)), (1, (3, 2))),
+    ((2, (1, 0)), (2, (0, 1)), (1, (3, 2)), (1, (2, 3))),
+    ((0, 0, 2), (0, 1, 2), (1, 0, 2), (1, 1, 2), (2, 2, 1), (2, 3, 1), (3, 2, 1), (3, 3, 1)),
+)
+
+# Four by four; all givers like all takers alike, and all takers all givers.
+RIVALS = (
+    ((9, (0, 1, 2, 3)),) * 4,
+    ((9, (3, 2, 1, 0)),) * 4,
+    FULL[2],
+)
+
+WORLDS = (ONE, BARE, CROSSED, UNEVEN, FULL, TALL, ROUND, TWICE, LEFT, BLOCKS, RIVALS)
 
 # Things that are neither a world, nor a plan of a world above, nor a number of anything in it.
 ODD_THINGS = (
@@ -77,6 +112,45 @@ def orders(pairs, side, place):
     return list(permutations([pair[1 - side] for pair in pairs if pair[side] == place]))
 
 
+def drawn_numbers(seed):
+    """Numbers without an end that look as if drawn by lot, the same ones each time."""
+    while True:
+        seed = (seed * 1103515245 + 12345) % 2 ** 31
+        yield seed // 2 ** 16
+
+
+def drawn_likes(draw, pairs, side, place):
+    others = [pair[1 - side] for pair in pairs if pair[side] == place]
+    return tuple(sorted(others, key=lambda _: next(draw)))
+
+
+def opposed_likes(draw, pairs, givers, taker):
+    """Those givers first that like the taker least: so there are often several plans at rest."""
+    others = [giver for giver, each in pairs if each == taker]
+    return tuple(sorted(others, key=lambda giver: (-givers[giver].index(taker), next(draw))))
+
+
+def drawn_world(draw):
+    """A world with up to three places on each side, with all of its numbers from the draw."""
+    sizes = [1 + next(draw) % 3, 1 + next(draw) % 3]
+    pairs = [pair for pair in product(range(sizes[0]), range(sizes[1])) if next(draw) % 8]
+    most = 1 if len(pairs) > 6 else 2 if len(pairs) > 4 else 3
+    givers = [drawn_likes(draw, pairs, 0, giver) for giver in range(sizes[0])]
+    if next(draw) % 3:
+        takers = [opposed_likes(draw, pairs, givers, taker) for taker in range(sizes[1])]
+        amounts = [1 + next(draw) % most] * 6
+    else:
+        takers = [drawn_likes(draw, pairs, 1, taker) for taker in range(sizes[1])]
+        amounts = [next(draw) % (most + 2) for _ in range(6)]
+    ways = tuple(pair + (1 + next(draw) % most,) for pair in pairs)
+    return (tuple(zip(amounts, givers)), tuple(zip(amounts[3:], takers)), ways)
+
+
+def drawn_worlds(many):
+    draw = drawn_numbers(2026)
+    return [drawn_world(draw) for _ in range(many)]
+
+
 def plans_by_hand(world):
     """All plans of a world, found by trying everything within the limits."""
     givers, takers, ways = world
@@ -89,6 +163,52 @@ def plans_by_hand(world):
         if all(many <= giver[0] for many, giver in zip(out, givers)):
             if all(many <= taker[0] for many, taker in zip(into, takers)):
                 yield numbers
+
+
+def wants(world, plan, side, way):
+    """The words of promise 2.2, by themselves, of one end of a way."""
+    ways = world[2]
+    place = ways[way][side]
+    amount, likes = world[side][place]
+    own = {each[1 - side]: many for each, many in zip(ways, plan) if each[side] == place}
+    liked_less = likes[likes.index(ways[way][1 - side]) + 1:]
+    return sum(own.values()) != amount or any(own[other] for other in liked_less)
+
+
+def reason_by_hand(world, plan, way):
+    if plan[way] == world[2][way][2]:
+        return "full"
+    if not wants(world, plan, 0, way):
+        return "giver"
+    if not wants(world, plan, 1, way):
+        return "taker"
+    return None
+
+
+def rests_by_hand(world):
+    """All plans of a world at rest, found by going through all plans."""
+    return [
+        plan for plan in plans_by_hand(world)
+        if all(reason_by_hand(world, plan, way) is not None for way in range(len(plan)))
+    ]
+
+
+def choice_by_hand(world, side, place, offers):
+    """What a place has on each of its liked ones, most liked first, that is by Python's order the greatest."""
+    amount, likes = world[side][place]
+    mosts = {way[1 - side]: min(offer, way[2]) for way, offer in zip(world[2], offers) if way[side] == place}
+    tried = product(*[range(mosts[other] + 1) for other in likes])
+    return max(numbers for numbers in tried if sum(numbers) <= amount)
+
+
+def rank_by_hand(world, side, place, plan):
+    own = {way[1 - side]: many for way, many in zip(world[2], plan) if way[side] == place}
+    return tuple(own[other] for other in world[side][place][1])
+
+
+def likes_by_hand(world, side, place, one, other):
+    both = tuple(max(pair) for pair in zip(one, other))
+    return choice_by_hand(world, side, place, both) == rank_by_hand(world, side, place, one)
 
 
 def assert_refused(test, error, call, *handed):

@@ -47,6 +47,32 @@ UNWRITTEN = (
 ).split()
 
 
+WALKED = ("zip", "enumerate", "reversed", "range")
+WALKERS = ("list", "tuple", "dict", "sorted", "sum", "any", "all", "enumerate", "zip")
+KEYWORDS = {
+    "sorted": ("key", "reverse"), "min": ("key", "default"), "max": ("key", "default"),
+    "sum": ("start",), "enumerate": ("start",), "zip": ("strict",),
+}
+
+
+def called(node):
+    """The plain name that a node calls, if it calls one."""
+    return node.func.id if isinstance(node, ast.Call) and isinstance(node.func, ast.Name) else None
+
+
+def walked_on_the_spot(tree):
+    """All nodes that stand where rule L23 has something walked at once."""
+    found = []
+    for node in ast.walk(tree):
+        if isinstance(node, (ast.For, ast.comprehension)):
+            found.append(node.iter)
+        elif called(node) in WALKERS:
+            found.extend(node.args if called(node) == "zip" else node.args[:1])
+        elif called(node) in ("min", "max") and len(node.args) == 1:
+            found.extend(node.args)
+    return found
+
+
 def bound_names(tree):
     """All names that a file gives a meaning to."""
     names = []
@@ -144,6 +170,49 @@ class Language(unittest.TestCase):
             tops += [part.targets[0].id for part in defined if isinstance(part, ast.Assign)]
             for alias in node.names:
                 self.assertIn(alias.name, tops, place)
+
+    def test_no_files_draw_from_one_another(self):
+        drawn = {path.stem: set() for path in FILES}
+        for path in FILES:
+            for node in ast.walk(ast.parse(path.read_text("utf-8"))):
+                if isinstance(node, ast.ImportFrom):
+                    drawn[path.stem].add(node.module.split(".")[1])
+        self.assertEqual(drawn.pop("__init__"), set())
+        while drawn:
+            free = [name for name in drawn if not drawn[name] & set(drawn)]
+            self.assertTrue(free, f"these draw from one another: {sorted(drawn)}")
+            for name in free:
+                del drawn[name]
+
+    def test_each_name_of_the_top_is_bound_once(self):
+        for path in FILES:
+            tops = []
+            for part in ast.parse(path.read_text("utf-8")).body:
+                if isinstance(part, ast.ImportFrom):
+                    tops += [alias.asname or alias.name for alias in part.names]
+                elif isinstance(part, ast.Assign):
+                    tops.append(part.targets[0].id)
+                elif not isinstance(part, ast.Expr):
+                    tops.append(part.name)
+            self.assertEqual(len(tops), len(set(tops)), path.name)
+
+    def test_walked_at_once(self):
+        for path in FILES:
+            tree = ast.parse(path.read_text("utf-8"))
+            walked = walked_on_the_spot(tree)
+            for node in ast.walk(tree):
+                if called(node) in WALKED:
+                    self.assertIn(node, walked, f"{path.name}:{node.lineno}")
+
+    def test_keywords_of_calls(self):
+        for place, node in self.each_node(ast.Call):
+            for keyword in node.keywords:
+                self.assertIn(keyword.arg, KEYWORDS.get(called(node), ()), place)
+
+    def test_texts(self):
+        for place, node in self.each_node(ast.Constant):
+            if isinstance(node.value, str):
+                self.assertNotIn(chr(37), node.value, place)
 
     def test_names(self):
         for path in FILES:

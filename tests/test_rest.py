@@ -7,28 +7,9 @@ from stillflow.errors import NoPlace, NoPlan, NoWorld
 from stillflow.flows import leaving, reason, rests
 from stillflow.worlds import turned, turned_plan
 from tests.examples import (
-    BARE, CROSSED, LIST_PLANS, ODD_THINGS, ONE, TALL, UNEVEN, assert_refused, plans_by_hand, small_worlds,
+    BARE, CROSSED, LIST_PLANS, ODD_THINGS, ONE, TALL, UNEVEN, assert_refused, plans_by_hand, reason_by_hand,
+    small_worlds,
 )
-
-
-def wants(world, plan, side, way):
-    """The words of the promise, by themselves, of one end of a way."""
-    ways = world[2]
-    place = ways[way][side]
-    amount, likes = world[side][place]
-    own = {each[1 - side]: many for each, many in zip(ways, plan) if each[side] == place}
-    liked_less = likes[likes.index(ways[way][1 - side]) + 1:]
-    return sum(own.values()) != amount or any(own[other] for other in liked_less)
-
-
-def reason_by_hand(world, plan, way):
-    if plan[way] == world[2][way][2]:
-        return "full"
-    if not wants(world, plan, 0, way):
-        return "giver"
-    if not wants(world, plan, 1, way):
-        return "taker"
-    return None
 
 
 class Rest(unittest.TestCase):

@@ -1,52 +1,100 @@
-"""Promise 0.3: what is handed in is not changed, whatever is told or refused."""
+"""Promise 0.3: what is handed in is not changed, whatever is told or refused, and told lists are new ones."""
 
 import unittest
 from copy import deepcopy
 
-from stillflow import flows, worlds
+from stillflow import changes, comparing, finding, flows, listing, worlds
 from stillflow.errors import FlowError
-from tests.examples import ODD_THINGS, UNEVEN
+from tests.examples import BARE, CROSSED, ODD_THINGS, TWICE, UNEVEN
 
 PLAN = (1, 4, 0, 2, 2)
+OTHER = (3, 2, 0, 0, 4)
+ROWS = [(0, 2), (2, 0), (0, 0)]
 
-# Each function with what it takes; each thing in turn is put in the place of each of these.
+# Each function with what it takes, and the places in that of which any thing may be handed in.
 CALLS = (
-    (worlds.is_world, (UNEVEN,)),
-    (worlds.turned, (UNEVEN,)),
-    (worlds.turned_plan, (UNEVEN, PLAN)),
-    (flows.sent, (UNEVEN, PLAN, 0)),
-    (flows.taken, (UNEVEN, PLAN, 1)),
-    (flows.choice, (UNEVEN, 0, 2, PLAN)),
-    (flows.leaving, (UNEVEN, PLAN)),
-    (flows.rests, (UNEVEN, PLAN)),
-    (flows.reason, (UNEVEN, PLAN, 3)),
+    (worlds.is_world, (UNEVEN,), (0,)),
+    (worlds.is_plan, (UNEVEN, PLAN), (1,)),
+    (worlds.turned, (UNEVEN,), (0,)),
+    (worlds.turned_plan, (UNEVEN, PLAN), (0, 1)),
+    (flows.sent, (UNEVEN, PLAN, 0), (0, 1, 2)),
+    (flows.taken, (UNEVEN, PLAN, 1), (0, 1, 2)),
+    (flows.choice, (UNEVEN, 0, 2, PLAN), (0, 1, 2)),
+    (flows.leaving, (UNEVEN, OTHER), (0, 1)),
+    (flows.rests, (UNEVEN, PLAN), (0, 1)),
+    (flows.reason, (UNEVEN, PLAN, 3), (0, 1, 2)),
+    (finding.both_ends, (UNEVEN, 1, PLAN), (0, 1)),
+    (finding.limits, (UNEVEN,), ()),
+    (finding.refused, (TWICE, (3, 2, 2, 2)), ()),
+    (finding.lowered, ((3, 2, 2, 2), 0, 2), ()),
+    (finding.steps, (TWICE,), ()),
+    (finding.capped, (TWICE, ROWS), ()),
+    (finding.givers_best, (UNEVEN,), (0,)),
+    (finding.takers_best, (UNEVEN,), (0,)),
+    (listing.all_plans, (CROSSED,), (0,)),
+    (listing.all_rests, (CROSSED,), (0,)),
+    (listing.is_single, (UNEVEN,), (0,)),
+    (listing.always, (UNEVEN,), (0,)),
+    (listing.totals, (UNEVEN,), (0,)),
+    (listing.short, (UNEVEN, 1), (0, 1)),
+    (comparing.greater, (PLAN, OTHER), ()),
+    (comparing.likes, (UNEVEN, 0, 2, PLAN, OTHER), (0, 1, 2, 3, 4)),
+    (comparing.all_like, (UNEVEN, 1, PLAN, OTHER), (0, 1, 2, 3)),
+    (comparing.together, (UNEVEN, 1, PLAN, OTHER), (0, 1, 2, 3)),
+    (comparing.rank, (UNEVEN, 1, 0, PLAN), (0, 1, 2, 3)),
+    (changes.with_amount, (UNEVEN, 0, 2, 9), (0, 1, 2, 3)),
+    (changes.with_limit, (UNEVEN, 1, 9), (0, 1, 2)),
+    (changes.without_way, (UNEVEN, 1), (0, 1)),
+    (changes.with_way, (UNEVEN, 1, 1, 9, 1, 2), (0, 1, 2, 3, 4, 5)),
+)
+
+# All that tell lists, with something in them and with nothing.
+LISTS = (
+    (flows.leaving, (UNEVEN, OTHER)),
+    (flows.leaving, (BARE, ())),
+    (finding.steps, (TWICE,)),
+    (finding.steps, (BARE,)),
+    (listing.all_plans, (CROSSED,)),
+    (listing.all_plans, (BARE,)),
+    (listing.all_rests, (CROSSED,)),
+    (listing.all_rests, (BARE,)),
+    (listing.always, (UNEVEN,)),
+    (listing.always, (CROSSED,)),
+    (listing.short, (TWICE, 0)),
+    (listing.short, (TWICE, 1)),
 )
 
 
 def wrong_calls():
     """Each call with one odd thing in it, where any thing may be handed in."""
-    for call, handed in CALLS:
-        for number, right in enumerate(handed):
-            if call is not flows.choice or right != PLAN:
-                for thing in ODD_THINGS:
-                    yield call, handed[:number] + (thing,) + handed[number + 1:]
+    for call, handed, places in CALLS:
+        for number in places:
+            for thing in ODD_THINGS:
+                yield call, handed[:number] + (thing,) + handed[number + 1:]
+
+
+def kinds_in(told):
+    """The kinds of all parts of what is told, but of a list that holds them."""
+    if isinstance(told, (list, tuple)):
+        return {kind for part in told for kind in {type(part)} | kinds_in(part)}
+    return set()
 
 
 class Whole(unittest.TestCase):
     def test_told_twice_the_same(self):
-        for call, handed in CALLS:
+        for call, handed, _ in CALLS:
             self.assertEqual(call(*handed), call(*handed), call.__name__)
 
     def test_any_thing_is_answered_or_refused(self):
         for call, handed in wrong_calls():
-            if call is worlds.is_world:
+            if call in (worlds.is_world, worlds.is_plan):
                 self.assertIs(call(*handed), False)
             else:
                 with self.assertRaises(FlowError):
                     call(*handed)
 
     def test_what_is_handed_in_is_not_changed(self):
-        for call, handed in wrong_calls():
+        for call, handed in list(wrong_calls()) + [(call, handed) for call, handed, _ in CALLS]:
             ahead = deepcopy(handed)
             try:
                 call(*handed)
@@ -54,11 +102,25 @@ class Whole(unittest.TestCase):
                 pass
             self.assertEqual(repr(handed), repr(ahead), call.__name__)
 
-    def test_nothing_is_handed_in_for_is_plan_that_it_changes(self):
-        for thing in ODD_THINGS:
-            ahead = repr(thing)
-            self.assertIs(worlds.is_plan(UNEVEN, thing), False)
-            self.assertEqual(repr(thing), ahead)
+    def test_told_lists_are_new_ones(self):
+        for call, handed in LISTS:
+            first = call(*handed)
+            self.assertIs(type(first), list, call.__name__)
+            ahead = deepcopy(first)
+            first.append("more")
+            first.reverse()
+            self.assertEqual(call(*handed), ahead, call.__name__)
+
+    def test_parts_are_tuples_and_whole_numbers(self):
+        for call, handed, _ in CALLS:
+            self.assertLessEqual(kinds_in(call(*handed)), {int, tuple}, call.__name__)
+
+    def test_a_list_that_is_handed_in_is_not_kept(self):
+        rows = list(ROWS)
+        caps = finding.capped(TWICE, rows)
+        rows.clear()
+        self.assertEqual(caps, (0, 2, 0, 2))
+        self.assertEqual(finding.capped(TWICE, rows), (3, 2, 2, 2))
 
 
 if __name__ == "__main__":
