@@ -1,4 +1,4 @@
-"""All plans of a world, all of them at rest, and what is alike in all of these."""
+"""All plans of a world, those of them that are at rest, and what is alike in all of these."""
 
 from stillflow.errors import TooMany
 from stillflow.finding import givers_best, takers_best
