@@ -60,6 +60,13 @@ TWICE = (
     ((0, 0, 3), (1, 0, 2), (1, 1, 2), (2, 1, 2)),
 )
 
+# Two ways are refused at once, and the giver of both likes the second one more.
+AT_ONCE = (
+    ((1, (0,)), (1, (1,)), (2, (1, 0))),
+    ((1, (0, 2)), (1, (1, 2))),
+    ((0, 0, 1), (1, 1, 1), (2, 0, 1), (2, 1, 1)),
+)
+
 # A crossed world, and beside it a giver and a taker of whom the taker has room left in all plans at rest.
 LEFT = (
     CROSSED[0] + ((3, (2,)),),
@@ -201,6 +208,15 @@ def choice_by_hand(world, side, place, offers):
     return max(numbers for numbers in tried if sum(numbers) <= amount)
 
 
+def both_ends_by_hand(world, side, offers):
+    found = [0] * len(world[2])
+    for place, (_, likes) in enumerate(world[side]):
+        for other, many in zip(likes, choice_by_hand(world, side, place, offers)):
+            pair = (place, other) if side == 0 else (other, place)
+            found[[way[:2] for way in world[2]].index(pair)] += many
+    return tuple(found)
+
+
 def rank_by_hand(world, side, place, plan):
     own = {way[1 - side]: many for way, many in zip(world[2], plan) if way[side] == place}
     return tuple(own[other] for other in world[side][place][1])
@@ -209,6 +225,29 @@ def rank_by_hand(world, side, place, plan):
 def likes_by_hand(world, side, place, one, other):
     both = tuple(max(pair) for pair in zip(one, other))
     return choice_by_hand(world, side, place, both) == rank_by_hand(world, side, place, one)
+
+
+def best_by_hand(world, side):
+    """All plans at rest that each place of a side would choose with any other one on offer, too."""
+    found = rests_by_hand(world)
+    return [
+        one for one in found
+        if all(likes_by_hand(world, side, place, one, other) for other in found for place in range(len(world[side])))
+    ]
+
+
+def wrong_writings(text, signs):
+    """All texts with one of the signs more, a sign less, a sign for another one, or two neighbours exchanged."""
+    found = {}
+    for place in range(len(text) + 1):
+        ahead, behind = text[:place], text[place:]
+        for sign in signs:
+            found[ahead + sign + behind] = True
+            found[ahead + sign + behind[1:]] = True
+        found[ahead + behind[1:]] = True
+        found[ahead + behind[1:2] + behind[:1] + behind[2:]] = True
+    found.pop(text, None)
+    return list(found)
 
 
 def assert_refused(test, error, call, *handed):

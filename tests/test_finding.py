@@ -8,15 +8,8 @@ from stillflow.finding import both_ends, capped, givers_best, limits, lowered, r
 from stillflow.flows import rests
 from stillflow.worlds import is_plan, is_world
 from tests.examples import (
-    BARE, BLOCKS, CROSSED, FULL, ODD_THINGS, ONE, RIVALS, ROUND, TALL, TWICE, UNEVEN, WORLDS, assert_refused,
-    choice_by_hand, drawn_worlds, likes_by_hand, rests_by_hand, small_worlds,
-)
-
-# Two ways are refused at once, and the giver of both likes the second one more.
-AT_ONCE = (
-    ((1, (0,)), (1, (1,)), (2, (1, 0))),
-    ((1, (0, 2)), (1, (1, 2))),
-    ((0, 0, 1), (1, 1, 1), (2, 0, 1), (2, 1, 1)),
+    AT_ONCE, BARE, BLOCKS, CROSSED, FULL, ODD_THINGS, ONE, RIVALS, ROUND, TALL, TWICE, UNEVEN, WORLDS, assert_refused,
+    best_by_hand, both_ends_by_hand, drawn_worlds, small_worlds,
 )
 
 # Nothing to give at one place, no room at another.
@@ -25,15 +18,6 @@ NOTHINGS = (
     ((0, (0, 1)), (2, (0, 1))),
     ((0, 0, 2), (0, 1, 2), (1, 0, 3), (1, 1, 3)),
 )
-
-
-def both_ends_by_hand(world, side, offers):
-    found = [0] * len(world[2])
-    for place, (_, likes) in enumerate(world[side]):
-        for other, many in zip(likes, choice_by_hand(world, side, place, offers)):
-            pair = (place, other) if side == 0 else (other, place)
-            found[[way[:2] for way in world[2]].index(pair)] += many
-    return tuple(found)
 
 
 def steps_by_hand(world):
@@ -49,15 +33,6 @@ def steps_by_hand(world):
         caps[less[0]] = kept[less[0]]
         rows.append((less[0], kept[less[0]]))
         all_caps.append(tuple(caps))
-
-
-def best_by_hand(world, side):
-    """All plans at rest that each place of a side would choose with any other one on offer, too."""
-    found = rests_by_hand(world)
-    return [
-        one for one in found
-        if all(likes_by_hand(world, side, place, one, other) for other in found for place in range(len(world[side])))
-    ]
 
 
 class BothEnds(unittest.TestCase):

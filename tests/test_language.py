@@ -46,8 +46,12 @@ UNWRITTEN = (
     "NamedTuple TypedDict TYPE_CHECKING abstractmethod"
 ).split()
 
+NOWHERE = UNUSED[:8] + ["format", "format_map", "args", "encode"]
+# What a value of an object may be called, though Python's own values have a method of this name.
+FREE_VALUES = "count index title find get join lower upper split strip copy add".split()
 
 WALKED = ("zip", "enumerate", "reversed", "range")
+CHANGING = "append clear extend insert pop remove reverse setdefault update".split()
 WALKERS = ("list", "tuple", "dict", "sorted", "sum", "any", "all", "enumerate", "zip")
 KEYWORDS = {
     "sorted": ("key", "reverse"), "min": ("key", "default"), "max": ("key", "default"),
@@ -71,6 +75,21 @@ def walked_on_the_spot(tree):
         elif called(node) in ("min", "max") and len(node.args) == 1:
             found.extend(node.args)
     return found
+
+
+def is_stored(node):
+    """Whether a node gives a value to an attribute."""
+    return isinstance(node, ast.Attribute) and isinstance(node.ctx, ast.Store)
+
+
+def changed_by(node):
+    """The thing that a node changes, if it is a call of a changing method, or gives a value to an index."""
+    if isinstance(node, ast.Call) and isinstance(node.func, ast.Attribute) and node.func.attr in CHANGING:
+        return node.func.value
+    if isinstance(node, ast.Subscript) and isinstance(node.ctx, ast.Store):
+        # The changed thing is only read here: so it looks just as it does behind the loop's `in`.
+        return node.value
+    return None
 
 
 def bound_names(tree):
@@ -218,8 +237,8 @@ class Language(unittest.TestCase):
         for path in FILES:
             tree = ast.parse(path.read_text("utf-8"))
             bound = bound_names(tree)
-            for name in bound:
-                self.assertRegex(name, r"\A[A-Za-z][A-Za-z0-9_]*\Z" if name not in UNDERSCORED else ".", path.name)
+            for name in [name for name in bound if name not in UNDERSCORED]:
+                self.assertRegex(name, r"\A[A-Za-z][A-Za-z0-9_]*\Z", path.name)
                 self.assertNotIn(name, PYTHON_NAMES + UNUSED, path.name)
                 self.assertFalse(hasattr(builtins, name), f"{path.name}: {name}")
             read = [node.id for node in ast.walk(tree) if isinstance(node, ast.Name)]
@@ -240,6 +259,59 @@ class Language(unittest.TestCase):
         for place, node in self.each_node(ast.Call):
             if isinstance(node.func, ast.Attribute):
                 self.assertIn(node.func.attr, METHODS + own, place)
+
+    def test_methods_are_called_where_they_stand(self):
+        for path in FILES:
+            tree = ast.parse(path.read_text("utf-8"))
+            called_here = [id(node.func) for node in ast.walk(tree) if isinstance(node, ast.Call)]
+            stored = [node.attr for node in ast.walk(tree) if is_stored(node)]
+            for node in ast.walk(tree):
+                if isinstance(node, ast.Attribute):
+                    self.assertNotIn(node.attr, NOWHERE, f"{path.name}:{node.lineno}")
+                    self.assertTrue(id(node) in called_here or node.attr in stored, f"{path.name}:{node.lineno}")
+
+    def test_methods_and_values_of_objects(self):
+        methods = {
+            part.name for _, node in self.each_node(ast.ClassDef) for part in node.body
+            if isinstance(part, ast.FunctionDef) and part.name not in UNDERSCORED
+        }
+        values = {node.attr for _, node in self.each_node(ast.Attribute) if is_stored(node)}
+        python_own = {name for kind in (str, int, list, tuple, dict, set, bytes) for name in dir(kind)}
+        self.assertEqual(methods & values, set())
+        self.assertEqual(methods & python_own - set(METHODS) - {"add", "discard"}, set())
+        self.assertEqual(values & python_own - set(FREE_VALUES), set())
+
+    def test_values_are_given_through_a_local_name(self):
+        for place, node in self.each_node(ast.Attribute):
+            if is_stored(node):
+                self.assertIsInstance(node.value, ast.Name, place)
+                self.assertTrue(node.value.id.islower(), place)
+
+    def test_making_an_object_gives_back_nothing(self):
+        for place, node in self.each_node(ast.FunctionDef):
+            if node.name == "__init__":
+                self.assertEqual([part for part in ast.walk(node) if isinstance(part, ast.Return)], [], place)
+
+    def test_what_a_loop_walks_is_not_changed_in_it(self):
+        for place, node in self.each_node(ast.For):
+            walked = {ast.dump(part) for part in ast.walk(node.iter) if isinstance(part, (ast.Name, ast.Attribute))}
+            for part in [part for row in node.body for part in ast.walk(row)]:
+                changed = changed_by(part)
+                if changed is not None:
+                    self.assertNotIn(ast.dump(changed), walked, place)
+
+    def test_sets_are_not_kept(self):
+        for path in FILES:
+            tree = ast.parse(path.read_text("utf-8"))
+            asked = []
+            for node in ast.walk(tree):
+                if called(node) in ("sorted", "len") and not node.keywords:
+                    asked.extend(id(part) for part in ast.walk(node.args[0]))
+                if isinstance(node, ast.Compare):
+                    asked.extend(id(part) for part in [node.left] + node.comparators)
+            for node in ast.walk(tree):
+                if called(node) in ("set", "frozenset") or isinstance(node, ast.Set):
+                    self.assertIn(id(node), asked, f"{path.name}:{node.lineno}")
 
 
 if __name__ == "__main__":

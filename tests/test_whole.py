@@ -3,7 +3,7 @@
 import unittest
 from copy import deepcopy
 
-from stillflow import changes, comparing, finding, flows, listing, worlds
+from stillflow import changes, comparing, finding, flows, listing, papers, texts, worlds
 from stillflow.errors import FlowError
 from tests.examples import BARE, CROSSED, ODD_THINGS, TWICE, UNEVEN
 
@@ -46,7 +46,28 @@ CALLS = (
     (changes.with_limit, (UNEVEN, 1, 9), (0, 1, 2)),
     (changes.without_way, (UNEVEN, 1), (0, 1)),
     (changes.with_way, (UNEVEN, 1, 1, 9, 1, 2), (0, 1, 2, 3, 4, 5)),
+    (papers.paper, (TWICE,), (0,)),
+    (papers.is_row, (TWICE, (0, 2)), (0, 1)),
+    (papers.holds, (TWICE, ROWS), (0, 1)),
+    (papers.caps_of, (TWICE, ROWS), (0, 1)),
+    (papers.shows, (TWICE, (0, 2, 0, 2), ROWS), (0, 1, 2)),
+    (papers.is_within, (TWICE, (0, 2, 0, 2), (0, 2, 0, 2)), (0, 1)),
+    (texts.world_text, (UNEVEN,), (0,)),
+    (texts.plan_text, (UNEVEN, PLAN), (0, 1)),
+    (texts.read_world, (texts.world_text(UNEVEN),), ()),
+    (texts.read_plan, (UNEVEN, texts.plan_text(UNEVEN, PLAN)), (0,)),
 )
+
+# What is answered, and not refused, of an odd thing in this place.
+ANSWERED = {
+    (worlds.is_world, 0): False,
+    (worlds.is_plan, 1): False,
+    (papers.is_row, 1): False,
+    (papers.holds, 1): False,
+    (papers.caps_of, 1): None,
+    (papers.shows, 2): False,
+    (papers.is_within, 1): False,
+}
 
 # All that tell lists, with something in them and with nothing.
 LISTS = (
@@ -62,15 +83,19 @@ LISTS = (
     (listing.always, (CROSSED,)),
     (listing.short, (TWICE, 0)),
     (listing.short, (TWICE, 1)),
+    (papers.paper, (TWICE,)),
+    (papers.paper, (BARE,)),
 )
 
 
 def wrong_calls():
-    """Each call with one odd thing in it, where any thing may be handed in."""
+    """Each call with one odd thing in it, where any thing may be handed in, and the place of that."""
     for call, handed, places in CALLS:
         for number in places:
             for thing in ODD_THINGS:
-                yield call, handed[:number] + (thing,) + handed[number + 1:]
+                # A list without rows is a paper like any other.
+                if handed[number] != ROWS or thing != []:
+                    yield call, handed[:number] + (thing,) + handed[number + 1:], number
 
 
 def kinds_in(told):
@@ -86,15 +111,15 @@ class Whole(unittest.TestCase):
             self.assertEqual(call(*handed), call(*handed), call.__name__)
 
     def test_any_thing_is_answered_or_refused(self):
-        for call, handed in wrong_calls():
-            if call in (worlds.is_world, worlds.is_plan):
-                self.assertIs(call(*handed), False)
+        for call, handed, number in wrong_calls():
+            if (call, number) in ANSWERED:
+                self.assertIs(call(*handed), ANSWERED[call, number], handed)
             else:
                 with self.assertRaises(FlowError):
                     call(*handed)
 
     def test_what_is_handed_in_is_not_changed(self):
-        for call, handed in list(wrong_calls()) + [(call, handed) for call, handed, _ in CALLS]:
+        for call, handed, _ in list(wrong_calls()) + list(CALLS):
             ahead = deepcopy(handed)
             try:
                 call(*handed)
@@ -121,6 +146,9 @@ class Whole(unittest.TestCase):
         rows.clear()
         self.assertEqual(caps, (0, 2, 0, 2))
         self.assertEqual(finding.capped(TWICE, rows), (3, 2, 2, 2))
+        self.assertEqual(papers.caps_of(TWICE, rows), (3, 2, 2, 2))
+        rows.extend(ROWS)
+        self.assertEqual(papers.caps_of(TWICE, rows), (0, 2, 0, 2))
 
 
 if __name__ == "__main__":
