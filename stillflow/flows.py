@@ -63,12 +63,17 @@ def why_kept(world, plan, way):
     return None
 
 
-def is_still(world, plan):
-    """Whether no pair would leave a plan that is known to be one."""
+def first_leaving(world, plan):
+    """The first way for which a pair would leave a plan that is known to be one; None without any."""
     for way in range(len(plan)):
         if why_kept(world, plan, way) is None:
-            return False
-    return True
+            return way
+    return None
+
+
+def is_still(world, plan):
+    """Whether no pair would leave a plan that is known to be one."""
+    return first_leaving(world, plan) is None
 
 
 def leaving(world, plan):

@@ -67,6 +67,17 @@ AT_ONCE = (
     ((0, 0, 1), (1, 1, 1), (2, 0, 1), (2, 1, 1)),
 )
 
+# Three by three, one each; from CIRCLE_WALK[0] a walk goes round through all of these plans, and never comes to rest.
+CIRCLE = (
+    ((1, (1, 2, 0)), (1, (0, 1)), (1, (2, 0))),
+    ((1, (0, 2, 1)), (1, (1, 0)), (1, (0, 2))),
+    ((0, 0, 1), (0, 1, 1), (0, 2, 1), (1, 0, 1), (1, 1, 1), (2, 0, 1), (2, 2, 1)),
+)
+CIRCLE_WALK = [
+    (0, 0, 0, 0, 1, 1, 0), (1, 0, 0, 0, 1, 0, 0), (0, 0, 1, 0, 1, 0, 0), (0, 0, 1, 1, 0, 0, 0), (0, 1, 0, 1, 0, 0, 0),
+    (0, 1, 0, 0, 0, 1, 0),
+]
+
 # A crossed world, and beside it a giver and a taker of whom the taker has room left in all plans at rest.
 LEFT = (
     CROSSED[0] + ((3, (2,)),),
@@ -99,6 +110,21 @@ ODD_THINGS = (
 
 # Each list is a plan in all but its kind.
 LIST_PLANS = ((ONE, [0]), (BARE, []), (CROSSED, [0, 0, 0, 0]), (UNEVEN, [0, 0, 0, 0, 0]))
+
+
+def world_of_limits(limits, amount=2):
+    """A world with these limits, all in the order of the numbers."""
+    pairs = list(product(range(4), repeat=2))[:len(limits)]
+    givers = tuple((amount, tuple(taker for each, taker in pairs if each == giver)) for giver in range(4))
+    takers = tuple((amount, tuple(giver for giver, each in pairs if each == taker)) for taker in range(4))
+    return (givers, takers, tuple(pair + (limit,) for pair, limit in zip(pairs, limits)))
+
+
+# All with 3000 choices of a number for each way.
+JUST_FEW_ENOUGH = tuple(world_of_limits(limits) for limits in ((9, 9, 9, 2), (4, 4, 4, 2, 3, 1), (2, 1, 1, 1, 4, 4, 4)))
+
+# The first has 3024, than which none that is above 3000 is less; the second 3072, the third 4096.
+JUST_TOO_MANY = tuple(world_of_limits(limits) for limits in ((6, 7, 8, 5), (2,) + (1,) * 10, (1,) * 12))
 
 
 def small_worlds():
@@ -156,6 +182,17 @@ def drawn_world(draw):
 def drawn_worlds(many):
     draw = drawn_numbers(2026)
     return [drawn_world(draw) for _ in range(many)]
+
+
+def great_worlds(many):
+    """Worlds of four by four with all ways, too great to list their plans."""
+    draw = drawn_numbers(5)
+    for _ in range(many):
+        sides = [
+            tuple((next(draw) % 10, tuple(sorted(range(4), key=lambda _: next(draw)))) for _ in range(4))
+            for _ in range(2)
+        ]
+        yield (sides[0], sides[1], tuple(pair + (1 + next(draw) % 9,) for pair in product(range(4), repeat=2)))
 
 
 def plans_by_hand(world):
@@ -234,6 +271,47 @@ def best_by_hand(world, side):
         one for one in found
         if all(likes_by_hand(world, side, place, one, other) for other in found for place in range(len(world[side])))
     ]
+
+
+def leaving_by_hand(world, plan):
+    return [way for way in range(len(plan)) if reason_by_hand(world, plan, way) is None]
+
+
+def cost_by_hand(world, side, place, plan):
+    """What each one of the amount of a place costs it, one by one, added up."""
+    amount, likes = world[side][place]
+    each = [[number] * many for number, many in enumerate(rank_by_hand(world, side, place, plan))]
+    going = [number for same in each for number in same]
+    return sum(going + [len(likes)] * (amount - len(going)))
+
+
+def costs_by_hand(world, plan):
+    return tuple(sum(cost_by_hand(world, side, place, plan) for place in range(len(world[side]))) for side in (0, 1))
+
+
+def pushed_by_hand(world, plan, way):
+    """The words of promise 11.1, by themselves."""
+    much = {each[:2]: many for each, many in zip(world[2], plan)}
+    giver, taker, _ = world[2][way]
+    gives_up = []
+    if sum(many for (place, _), many in much.items() if place == giver) == world[0][giver][0]:
+        gives_up.append((giver, [other for other in world[0][giver][1] if much[giver, other]][-1]))
+    if sum(many for (_, place), many in much.items() if place == taker) == world[1][taker][0]:
+        gives_up.append(([other for other in world[1][taker][1] if much[other, taker]][-1], taker))
+    much[giver, taker] += 1
+    for pair in gives_up:
+        much[pair] -= 1
+    return tuple(much[each[:2]] for each in world[2])
+
+
+def walk_by_hand(world, plan):
+    found = [plan]
+    while leaving_by_hand(world, found[-1]):
+        further = pushed_by_hand(world, found[-1], leaving_by_hand(world, found[-1])[0])
+        if further in found:
+            break
+        found.append(further)
+    return found
 
 
 def wrong_writings(text, signs):

@@ -10,25 +10,12 @@ from stillflow.flows import choice, rests, sent, taken
 from stillflow.listing import all_plans, all_rests, always, is_single, short, totals
 from stillflow.worlds import turned, turned_plan
 from tests.examples import (
-    BARE, BLOCKS, CROSSED, FULL, LEFT, ONE, RIVALS, ROUND, TALL, TWICE, UNEVEN, drawn_numbers, drawn_worlds,
+    BARE, BLOCKS, CROSSED, FULL, LEFT, ONE, RIVALS, ROUND, TALL, TWICE, UNEVEN, drawn_worlds, great_worlds,
     small_worlds,
 )
 
 FEW = [ONE, BARE, CROSSED, UNEVEN, TALL, ROUND, TWICE, LEFT, BLOCKS]
 MANY = FEW + list(small_worlds())[::3] + drawn_worlds(600)
-
-
-def great_worlds(many):
-    """Worlds of four by four with all ways, too great to list their plans."""
-    draw = drawn_numbers(5)
-    for _ in range(many):
-        sides = [
-            tuple((next(draw) % 10, tuple(sorted(range(4), key=lambda _: next(draw)))) for _ in range(4))
-            for _ in range(2)
-        ]
-        yield (sides[0], sides[1], tuple(pair + (1 + next(draw) % 9,) for pair in product(range(4), repeat=2)))
-
-
 GREAT = [FULL, RIVALS] + list(great_worlds(40))
 
 

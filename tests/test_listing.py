@@ -6,27 +6,12 @@ from itertools import product
 from stillflow.errors import NoPlace, NoWorld, TooMany
 from stillflow.listing import all_plans, all_rests, always, is_single, short, totals
 from tests.examples import (
-    BARE, BLOCKS, CROSSED, FULL, LEFT, ODD_THINGS, ONE, RIVALS, ROUND, TALL, TWICE, UNEVEN, assert_refused,
-    drawn_worlds, plans_by_hand, rests_by_hand, small_worlds,
+    BARE, BLOCKS, CROSSED, FULL, JUST_FEW_ENOUGH, JUST_TOO_MANY, LEFT, ODD_THINGS, ONE, RIVALS, ROUND, TALL, TWICE,
+    UNEVEN, assert_refused, drawn_worlds, plans_by_hand, rests_by_hand, small_worlds, world_of_limits,
 )
 
 LISTS = (all_plans, all_rests, always)
 FEW = (ONE, BARE, CROSSED, TALL, ROUND, TWICE, LEFT, BLOCKS)
-
-
-def world_of_limits(limits, amount=2):
-    """A world with these limits, all in the order of the numbers."""
-    pairs = list(product(range(4), repeat=2))[:len(limits)]
-    givers = tuple((amount, tuple(taker for each, taker in pairs if each == giver)) for giver in range(4))
-    takers = tuple((amount, tuple(giver for giver, each in pairs if each == taker)) for taker in range(4))
-    return (givers, takers, tuple(pair + (limit,) for pair, limit in zip(pairs, limits)))
-
-
-# All with 3000 choices of a number for each way.
-JUST_FEW_ENOUGH = tuple(world_of_limits(limits) for limits in ((9, 9, 9, 2), (4, 4, 4, 2, 3, 1), (2, 1, 1, 1, 4, 4, 4)))
-
-# The first has 3024, than which none that is above 3000 is less; the second 3072, the third 4096.
-JUST_TOO_MANY = tuple(world_of_limits(limits) for limits in ((6, 7, 8, 5), (2,) + (1,) * 10, (1,) * 12))
 
 
 def sums_by_hand(world, plan):

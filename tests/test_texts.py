@@ -166,9 +166,10 @@ class NoWorldTexts(unittest.TestCase):
 
     def test_other_digits_and_line_ends(self):
         for text in (
-            "give 3 0\r\ntake 4 0\r\nway 0 0 2\r\n", "give 3 0\rtake 4 0\rway 0 0 2\r", "give\t3 0\ntake 4 0\nway 0 0 2\n",
-            "give \u0663 0\ntake 4 0\nway 0 0 2\n", "give \u00b3 0\ntake 4 0\nway 0 0 2\n",
-            "give 3 0\x0btake 4 0\x0bway 0 0 2\x0b", "give 3 0\u2028take 4 0\nway 0 0 2\n",
+            "give 3 0\r\ntake 4 0\r\nway 0 0 2\r\n", "give 3 0\rtake 4 0\rway 0 0 2\r",
+            "give\t3 0\ntake 4 0\nway 0 0 2\n", "give \u0663 0\ntake 4 0\nway 0 0 2\n",
+            "give \u00b3 0\ntake 4 0\nway 0 0 2\n", "give 3 0\x0btake 4 0\x0bway 0 0 2\x0b",
+            "give 3 0\u2028take 4 0\nway 0 0 2\n",
         ):
             assert_refused(self, NoText, read_world, text)
 

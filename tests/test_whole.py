@@ -2,9 +2,13 @@
 
 import unittest
 from copy import deepcopy
+from importlib import import_module
+from inspect import signature
 
-from stillflow import changes, comparing, finding, flows, listing, papers, texts, worlds
+from stillflow import changes, comparing, costs, finding, flows, listing, papers, texts, walks, walktexts, worlds
+from stillflow.desks import Desk
 from stillflow.errors import FlowError
+from stillflow.floors import Floor
 from tests.examples import BARE, CROSSED, ODD_THINGS, TWICE, UNEVEN
 
 PLAN = (1, 4, 0, 2, 2)
@@ -56,6 +60,14 @@ CALLS = (
     (texts.plan_text, (UNEVEN, PLAN), (0, 1)),
     (texts.read_world, (texts.world_text(UNEVEN),), ()),
     (texts.read_plan, (UNEVEN, texts.plan_text(UNEVEN, PLAN)), (0,)),
+    (costs.cost, (UNEVEN, 1, 0, PLAN), (0, 1, 2, 3)),
+    (costs.costs, (UNEVEN, PLAN), (0, 1)),
+    (costs.fairest, (CROSSED,), (0,)),
+    (walks.pushed, (CROSSED, (0, 2, 0, 0), 2), (0, 1, 2)),
+    (walks.walk, (CROSSED, (0, 2, 0, 0)), (0, 1)),
+    (walks.comes_to_rest, (CROSSED, (0, 2, 0, 0)), (0, 1)),
+    (walktexts.walk_text, (UNEVEN, [PLAN, OTHER]), (0, 1)),
+    (walktexts.read_walk, (UNEVEN, walktexts.walk_text(UNEVEN, [PLAN, OTHER])), (0,)),
 )
 
 # What is answered, and not refused, of an odd thing in this place.
@@ -67,6 +79,30 @@ ANSWERED = {
     (papers.caps_of, 1): None,
     (papers.shows, 2): False,
     (papers.is_within, 1): False,
+}
+
+# The names that the document tells of each file, with how many arguments each takes.
+INTERFACE = {
+    "worlds": {"is_world": 1, "is_plan": 2, "turned": 1, "turned_plan": 2},
+    "flows": {"sent": 3, "taken": 3, "choice": 4, "leaving": 2, "reason": 3, "rests": 2},
+    "finding": {
+        "both_ends": 3, "limits": 1, "refused": 2, "lowered": 3, "steps": 1, "capped": 2, "givers_best": 1,
+        "takers_best": 1,
+    },
+    "listing": {"all_plans": 1, "all_rests": 1, "always": 1, "totals": 1, "short": 2, "is_single": 1},
+    "comparing": {"greater": 2, "together": 4, "rank": 4, "likes": 5, "all_like": 4},
+    "changes": {"with_amount": 4, "with_limit": 3, "without_way": 2, "with_way": 6},
+    "papers": {"paper": 1, "caps_of": 2, "is_row": 2, "holds": 2, "shows": 3, "is_within": 3},
+    "desks": {"Desk": 1},
+    "texts": {"world_text": 1, "plan_text": 2, "read_world": 1, "read_plan": 2},
+    "costs": {"cost": 4, "costs": 2, "fairest": 1},
+    "walks": {"pushed": 3, "walk": 2, "comes_to_rest": 2},
+    "floors": {"Floor": 2},
+    "walktexts": {"walk_text": 2, "read_walk": 2},
+}
+METHODS = {
+    Desk: {"world": 0, "plan": 0, "set_amount": 3, "set_limit": 2, "close": 1, "undo": 0, "many": 0},
+    Floor: {"push": 1, "lay": 1, "settle": 0, "plan": 0, "back": 0, "forth": 0, "counts": 0, "twin": 0},
 }
 
 # All that tell lists, with something in them and with nothing.
@@ -85,6 +121,10 @@ LISTS = (
     (listing.short, (TWICE, 1)),
     (papers.paper, (TWICE,)),
     (papers.paper, (BARE,)),
+    (walks.walk, (CROSSED, (0, 2, 0, 0))),
+    (walks.walk, (CROSSED, (0, 2, 2, 0))),
+    (walktexts.read_walk, (CROSSED, "0 2 0 0\n")),
+    (walktexts.read_walk, (CROSSED, "")),
 )
 
 
@@ -93,8 +133,8 @@ def wrong_calls():
     for call, handed, places in CALLS:
         for number in places:
             for thing in ODD_THINGS:
-                # A list without rows is a paper like any other.
-                if handed[number] != ROWS or thing != []:
+                # A list without rows is a paper, and one without plans a list of plans, like any other.
+                if not isinstance(handed[number], list) or thing != []:
                     yield call, handed[:number] + (thing,) + handed[number + 1:], number
 
 
@@ -139,6 +179,16 @@ class Whole(unittest.TestCase):
     def test_parts_are_tuples_and_whole_numbers(self):
         for call, handed, _ in CALLS:
             self.assertLessEqual(kinds_in(call(*handed)), {int, tuple}, call.__name__)
+
+    def test_all_that_the_interface_names_is_there(self):
+        for module, names in INTERFACE.items():
+            for name, arguments in names.items():
+                there = getattr(import_module(f"stillflow.{module}"), name)
+                self.assertEqual(len(signature(there).parameters), arguments, f"{module}.{name}")
+        for kind, names in METHODS.items():
+            for name, arguments in names.items():
+                # One more is the object itself.
+                self.assertEqual(len(signature(getattr(kind, name)).parameters), arguments + 1, name)
 
     def test_a_list_that_is_handed_in_is_not_kept(self):
         rows = list(ROWS)
